@@ -94,19 +94,71 @@ func (h *Heap) Free(p int, site int) api.Errno {
 }
 
 // Realloc gives out a block in the place of another (P8).
-func (h *Heap) Realloc(p int, size int, draw int, site int) (int, api.Errno) { return 0, api.OK }
+func (h *Heap) Realloc(p int, size int, draw int, site int) (int, api.Errno) {
+	if p == 0 {
+		return h.Malloc(size, draw, site)
+	}
+	n, i, err := h.blockOf(p)
+	if err != api.OK {
+		return 0, err
+	}
+	q, err := h.Malloc(size, draw, site)
+	if err != api.OK {
+		return 0, err
+	}
+	both := wholeGranules(size)
+	if both > h.classes[n].slots[i].bytes {
+		both = h.classes[n].slots[i].bytes
+	}
+	h.copyBytes(q%api.TagUnit, p%api.TagUnit, both)
+	h.classes[n].freeSlot(i, h.rest, site)
+	return q, api.OK
+}
 
 // Usable tells how many bytes a block has (P8).
-func (h *Heap) Usable(p int) (int, api.Errno) { return 0, api.OK }
+func (h *Heap) Usable(p int) (int, api.Errno) {
+	n, i, err := h.blockOf(p)
+	if err != api.OK {
+		return 0, err
+	}
+	return h.classes[n].slots[i].bytes, api.OK
+}
 
 // Load reads a number (P10).
-func (h *Heap) Load(p int, width int) (int, api.Errno) { return 0, api.OK }
+func (h *Heap) Load(p int, width int) (int, api.Errno) {
+	err := h.accessNumber(p, width)
+	if err != api.OK {
+		return 0, err
+	}
+	return h.number(p%api.TagUnit, width), api.OK
+}
 
 // Store writes a number (P10).
-func (h *Heap) Store(p int, width int, value int) api.Errno { return api.OK }
+func (h *Heap) Store(p int, width int, value int) api.Errno {
+	err := h.accessNumber(p, width)
+	if err != api.OK {
+		return err
+	}
+	h.setNumber(p%api.TagUnit, width, value)
+	return api.OK
+}
 
 // Move copies bytes (P11).
-func (h *Heap) Move(to int, from int, n int) api.Errno { return api.OK }
+func (h *Heap) Move(to int, from int, n int) api.Errno {
+	err := h.access(from, n)
+	if err != api.OK {
+		return err
+	}
+	err = h.access(to, n)
+	if err != api.OK {
+		return err
+	}
+	// An access of no bytes is OK at wild pointers too, which have no address to copy from.
+	if n > 0 {
+		h.copyBytes(to%api.TagUnit, from%api.TagUnit, n)
+	}
+	return api.OK
+}
 
 // Explain tells what an access finds (P12).
 func (h *Heap) Explain(p int, n int) api.Report { return api.Report{} }

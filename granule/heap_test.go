@@ -12,8 +12,15 @@ func TestP1NoCallPanicsAtAnyNumber(t *testing.T) {
 	for _, a := range extremes {
 		h.Tag(a)
 		h.Free(a, a)
+		h.Usable(a)
 		for _, b := range extremes {
 			h.Malloc(a, b, a)
+			h.Realloc(a, b, a, b)
+			h.Load(a, b)
+			h.Store(a, b, a)
+			for _, n := range extremes {
+				h.Move(a, b, n)
+			}
 			New(api.Conf{Static: a, Rest: b, Classes: classes(1, 1)})
 			New(api.Conf{Classes: classes(a, b)})
 			New(api.Conf{Classes: classes(1, 1, a, b)})
@@ -50,6 +57,42 @@ func TestP1AnErrorChangesNothing(t *testing.T) {
 			t.Fatalf("Free(%d) = OK", p)
 		}
 		wantUnchanged(t, h, was, "a Free with an error")
+		if q, err := h.Realloc(p, 16, 5, 99); q != 0 || err == api.OK {
+			t.Fatalf("Realloc(%d) = %d, %d", p, q, err)
+		}
+		wantUnchanged(t, h, was, "a Realloc with an error")
+		if n, err := h.Usable(p); n != 0 || err == api.OK {
+			t.Fatalf("Usable(%d) = %d, %d", p, n, err)
+		}
+		wantUnchanged(t, h, was, "a Usable with an error")
+	}
+}
+
+func TestP1ARefusedStoreOrMoveWritesNothing(t *testing.T) {
+	h := mustNew(t, api.Conf{Static: 1, Classes: classes(1, 2, 3, 1)})
+	wantMalloc(t, h, 16, 0, 1, unit+48, api.OK)
+	wantMalloc(t, h, 17, 0, 2, unit+96, api.OK)
+	fill(h, 16, 16)
+	was := copyOf(h)
+	for _, at := range []int{unit + 48 + 9, unit + 48 + 15, unit + 96 + 25, 25, 31} {
+		for _, width := range []int{8, 9, 3} {
+			if err := h.Store(at, width, -1); err == api.OK {
+				t.Fatalf("Store(%d, %d) = OK", at, width)
+			}
+			wantUnchanged(t, h, was, "a Store with an error")
+			if v, err := h.Load(at, width); v != 0 || err == api.OK {
+				t.Fatalf("Load(%d, %d) = %d, %d", at, width, v, err)
+			}
+		}
+		for _, n := range []int{8, 16, 17, -1, api.MaxMove, api.MaxMove + 1} {
+			if err := h.Move(at, 16, n); err == api.OK {
+				t.Fatalf("Move(%d, 16, %d) = OK", at, n)
+			}
+			if err := h.Move(16, at, n); err == api.OK {
+				t.Fatalf("Move(16, %d, %d) = OK", at, n)
+			}
+			wantUnchanged(t, h, was, "a Move with an error")
+		}
 	}
 }
 
@@ -430,6 +473,10 @@ func TestTheDocumentsExampleHeap(t *testing.T) {
 	wantMalloc(t, h, 17, 27, 3, 14*unit+96, api.OK)
 	wantMalloc(t, h, 0, 0, 0, 0, api.ErrSize)
 	wantMalloc(t, h, 33, 0, 0, 0, api.ErrSize)
+	wantLoad(t, h, unit+63, 2, 0, api.ErrTag)
+	wantLoad(t, h, 14*unit+126, 4, 0, api.ErrMap)
+	wantStore(t, h, unit+48, 2, 515, api.OK)
+	wantLoad(t, h, unit+48, 1, 3, api.OK)
 	wantFree(t, h, unit+48, 10, api.OK)
 	wantTag(t, h, 48, 15)
 	wantMalloc(t, h, 16, 0, 11, 0, api.ErrFull)
@@ -437,4 +484,6 @@ func TestTheDocumentsExampleHeap(t *testing.T) {
 	wantFree(t, h, 2*unit+64, 13, api.OK)
 	wantMalloc(t, h, 16, 0, 14, 3*unit+48, api.OK)
 	wantFree(t, h, unit+48, 15, api.ErrFree)
+	wantUsable(t, h, 3*unit+48, 16, api.OK)
+	wantUsable(t, h, 0, 0, api.ErrFree)
 }

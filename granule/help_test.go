@@ -61,6 +61,62 @@ func wantFree(t *testing.T, h *Heap, p int, site int, want api.Errno) {
 	}
 }
 
+func wantRealloc(t *testing.T, h *Heap, p int, size int, draw int, site int, want int, wantErr api.Errno) {
+	t.Helper()
+	if got, err := h.Realloc(p, size, draw, site); got != want || err != wantErr {
+		t.Fatalf("Realloc(%d, %d, %d, %d) = %d, %d, want %d, %d", p, size, draw, site, got, err, want, wantErr)
+	}
+}
+
+func wantUsable(t *testing.T, h *Heap, p int, want int, wantErr api.Errno) {
+	t.Helper()
+	if got, err := h.Usable(p); got != want || err != wantErr {
+		t.Fatalf("Usable(%d) = %d, %d, want %d, %d", p, got, err, want, wantErr)
+	}
+}
+
+func wantLoad(t *testing.T, h *Heap, p int, width int, want int, wantErr api.Errno) {
+	t.Helper()
+	if got, err := h.Load(p, width); got != want || err != wantErr {
+		t.Fatalf("Load(%d, %d) = %d, %d, want %d, %d", p, width, got, err, want, wantErr)
+	}
+}
+
+func wantStore(t *testing.T, h *Heap, p int, width int, value int, want api.Errno) {
+	t.Helper()
+	if err := h.Store(p, width, value); err != want {
+		t.Fatalf("Store(%d, %d, %d) = %d, want %d", p, width, value, err, want)
+	}
+}
+
+func wantMove(t *testing.T, h *Heap, to int, from int, n int, want api.Errno) {
+	t.Helper()
+	if err := h.Move(to, from, n); err != want {
+		t.Fatalf("Move(%d, %d, %d) = %d, want %d", to, from, n, err, want)
+	}
+}
+
+// wantBytes looks at n bytes from an address on: those of the list, and behind them only zeros.
+func wantBytes(t *testing.T, h *Heap, addr int, n int, list ...byte) {
+	t.Helper()
+	for i := 0; i < n; i++ {
+		want := byte(0)
+		if i < len(list) {
+			want = list[i]
+		}
+		if h.bytes[addr+i] != want {
+			t.Fatalf("the byte at %d is %d, want %d", addr+i, h.bytes[addr+i], want)
+		}
+	}
+}
+
+// fill writes 1, 2, 3, .. into n bytes.
+func fill(h *Heap, addr int, n int) {
+	for i := 0; i < n; i++ {
+		h.bytes[addr+i] = byte(i + 1)
+	}
+}
+
 // copyOf copies all that a heap keeps, so that a later change can be seen.
 func copyOf(h *Heap) Heap {
 	out := *h

@@ -17,6 +17,7 @@ type event struct {
 type history struct {
 	conf   api.Conf
 	events []event
+	bytes  map[int]byte // what was written last at each address
 }
 
 func (y *history) begin(class int, slot int) int {
@@ -59,6 +60,9 @@ func (y *history) malloc(size int, draw int) (int, api.Errno) {
 			}
 			tag := pickByWords(e.tag, y.lastTag(n, i-1), y.lastTag(n, i+1), draw)
 			y.events = append(y.events, event{n, i, false, tag, (size + 15) / 16 * 16})
+			for at := 0; at < (size+15)/16*16; at++ {
+				delete(y.bytes, y.begin(n, i)+at)
+			}
 			return tag*unit + y.begin(n, i), api.OK
 		}
 		return 0, api.ErrFull
@@ -66,12 +70,10 @@ func (y *history) malloc(size int, draw int) (int, api.Errno) {
 	return 0, api.ErrSize
 }
 
-func (y *history) free(p int) api.Errno {
-	if p == 0 {
-		return api.OK
-	}
+// find is the last event of the live block of a pointer.
+func (y *history) find(p int) (event, api.Errno) {
 	if p < 0 || p>>56 > 15 || p&(1<<56-1) > 65535 {
-		return api.ErrWild
+		return event{}, api.ErrWild
 	}
 	for n, k := range y.conf.Classes {
 		for i := 0; i < k.Slots; i++ {
@@ -80,14 +82,107 @@ func (y *history) free(p int) api.Errno {
 				continue
 			}
 			if e.freed {
-				return api.ErrTwice
+				return event{}, api.ErrTwice
 			}
-			e.freed = true
-			y.events = append(y.events, e)
-			return api.OK
+			return e, api.OK
 		}
 	}
-	return api.ErrFree
+	return event{}, api.ErrFree
+}
+
+func (y *history) free(p int) api.Errno {
+	if p == 0 {
+		return api.OK
+	}
+	e, err := y.find(p)
+	if err == api.OK {
+		e.freed = true
+		y.events = append(y.events, e)
+	}
+	return err
+}
+
+func (y *history) realloc(p int, size int, draw int) (int, api.Errno) {
+	if p == 0 {
+		return y.malloc(size, draw)
+	}
+	old, err := y.find(p)
+	if err != api.OK {
+		return 0, err
+	}
+	q, err := y.malloc(size, draw)
+	if err != api.OK {
+		return 0, err
+	}
+	fresh, _ := y.find(q)
+	for i := 0; i < old.bytes && i < fresh.bytes; i++ {
+		y.bytes[q&65535+i] = y.bytes[p&65535+i]
+	}
+	return q, y.free(p)
+}
+
+func (y *history) usable(p int) (int, api.Errno) {
+	e, err := y.find(p)
+	return e.bytes, err
+}
+
+func (y *history) access(p int, n int) api.Errno {
+	if n < 0 || n > 65536 {
+		return api.ErrArg
+	}
+	if n > 0 && (p < 0 || p>>56 > 15 || p&(1<<56-1) > 65535) {
+		return api.ErrWild
+	}
+	tags := y.tags()
+	for i := 0; i < n; i++ {
+		g := (p&65535 + i) / 16
+		if g >= len(tags) || tags[g] == api.NoTag {
+			return api.ErrMap
+		}
+		if tags[g] == api.Poison || tags[g] != p>>56 {
+			return api.ErrTag
+		}
+	}
+	return api.OK
+}
+
+func (y *history) load(p int, width int) (int, api.Errno) {
+	if width != 1 && width != 2 && width != 4 && width != 8 {
+		return 0, api.ErrArg
+	}
+	if err := y.access(p, width); err != api.OK {
+		return 0, err
+	}
+	var value uint64
+	for i := 0; i < width; i++ {
+		value += uint64(y.bytes[p&65535+i]) << (8 * i)
+	}
+	return int(value), api.OK
+}
+
+func (y *history) store(p int, width int, value int) api.Errno {
+	_, err := y.load(p, width)
+	for i := 0; err == api.OK && i < width; i++ {
+		y.bytes[p&65535+i] = byte(uint64(value) >> (8 * i))
+	}
+	return err
+}
+
+func (y *history) move(to int, from int, n int) api.Errno {
+	if err := y.access(from, n); err != api.OK {
+		return err
+	}
+	if err := y.access(to, n); err != api.OK {
+		return err
+	}
+	var read []byte
+	for i := 0; i < n; i++ {
+		read = append(read, y.bytes[from&65535+i])
+	}
+	for i, b := range read {
+		y.bytes[to&65535+i] = b
+	}
+	return api.OK
 }
 
 // tags lists the tag of every granule.
@@ -129,33 +224,90 @@ func somePointer(r *numbers, given []int) int {
 	return p
 }
 
+// player makes the same calls on a heap and on its history.
+type player struct {
+	h     *Heap
+	y     *history
+	r     *numbers
+	given []int
+}
+
+func (g *player) somePlace() int {
+	p := somePointer(g.r, g.given)
+	switch g.r.next(3) {
+	case 0:
+		return p + g.r.next(40)
+	case 1:
+		return 16 + g.r.next(16*g.y.conf.Static+2)
+	}
+	return p
+}
+
+func (g *player) keep(p int, err api.Errno) {
+	if err == api.OK {
+		g.given = append(g.given, p)
+	}
+}
+
+func (g *player) block(t *testing.T, step int) {
+	t.Helper()
+	list := g.y.conf.Classes
+	size, draw := g.r.next(16*list[len(list)-1].Granules+4)-1, g.r.next(40000)-20000
+	p := somePointer(g.r, g.given)
+	switch g.r.next(6) {
+	case 0, 1:
+		want, wantErr := g.y.malloc(size, draw)
+		wantMalloc(t, g.h, size, draw, step, want, wantErr)
+		g.keep(want, wantErr)
+	case 2, 3:
+		wantFree(t, g.h, p, step, g.y.free(p))
+	case 4:
+		want, wantErr := g.y.realloc(p, size, draw)
+		wantRealloc(t, g.h, p, size, draw, step, want, wantErr)
+		g.keep(want, wantErr)
+	case 5:
+		want, wantErr := g.y.usable(p)
+		wantUsable(t, g.h, p, want, wantErr)
+	}
+}
+
+func (g *player) touch(t *testing.T) {
+	t.Helper()
+	p, q := g.somePlace(), g.somePlace()
+	width := []int{1, 2, 4, 8, 8, 4, 2, 1, 3, 0}[g.r.next(10)]
+	switch g.r.next(3) {
+	case 0:
+		value := int(g.r.state)
+		wantStore(t, g.h, p, width, value, g.y.store(p, width, value))
+	case 1:
+		want, wantErr := g.y.load(p, width)
+		wantLoad(t, g.h, p, width, want, wantErr)
+	case 2:
+		n := g.r.next(40) - 1
+		wantMove(t, g.h, p, q, n, g.y.move(p, q, n))
+	}
+}
+
 func playAlong(t *testing.T, c api.Conf, seed uint64) {
 	t.Helper()
-	h := mustNew(t, c)
-	y := &history{conf: c}
-	r := &numbers{seed}
-	top := 16 * c.Classes[len(c.Classes)-1].Granules
-	var given []int
-	for step := 0; step < 400; step++ {
-		if r.next(2) == 0 {
-			size, draw := r.next(top+4)-1, r.next(40000)-20000
-			want, wantErr := y.malloc(size, draw)
-			wantMalloc(t, h, size, draw, step, want, wantErr)
-			if wantErr == api.OK {
-				given = append(given, want)
-			}
-		} else {
-			p := somePointer(r, given)
-			wantFree(t, h, p, step, y.free(p))
+	g := &player{h: mustNew(t, c), y: &history{conf: c, bytes: map[int]byte{}}, r: &numbers{seed}}
+	for step := 0; step < 300; step++ {
+		g.block(t, step)
+		g.touch(t)
+		g.touch(t)
+		for at, tag := range g.y.tags() {
+			wantTag(t, g.h, 16*at, tag)
+			wantTag(t, g.h, 16*at+15, tag)
 		}
-		for g, tag := range y.tags() {
-			wantTag(t, h, 16*g, tag)
-			wantTag(t, h, 16*g+15, tag)
+		for at, b := range g.h.bytes {
+			if b != g.y.bytes[at] {
+				t.Fatalf("the byte at %d is %d, want %d", at, b, g.y.bytes[at])
+			}
 		}
 	}
 }
 
-func TestP4P6P7TheHeapAnswersAsItsHistorySays(t *testing.T) {
+func TestP4P6ToP11TheHeapAnswersAsItsHistorySays(t *testing.T) {
 	for seed := uint64(1); seed <= 12; seed++ {
 		for _, c := range []api.Conf{
 			exampleConf(),
