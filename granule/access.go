@@ -4,23 +4,36 @@ import "granule/api"
 
 // access is the error of an access of n bytes at p (P9).
 func (h *Heap) access(p int, n int) api.Errno {
+	_, err := h.decide(p, n)
+	return err
+}
+
+// decide is the error of an access with the lowest of its addresses in the granule that decided; 0 if none did.
+func (h *Heap) decide(p int, n int) (int, api.Errno) {
 	if !within(n, 0, api.MaxMove) {
-		return api.ErrArg
+		return 0, api.ErrArg
 	}
 	if n == 0 {
-		return api.OK
+		return 0, api.OK
 	}
 	if !isTame(p) {
-		return api.ErrWild
+		return 0, api.ErrWild
 	}
-	begin := p % api.TagUnit
-	for at := begin - begin%api.Granule; at < begin+n; at += api.Granule {
+	at := p % api.TagUnit
+	end := at + n
+	for at < end {
 		err := h.touch(at, p/api.TagUnit)
 		if err != api.OK {
-			return err
+			return at, err
 		}
+		at = nextGranule(at)
 	}
-	return api.OK
+	return 0, api.OK
+}
+
+// nextGranule is where the granule behind that of an address begins.
+func nextGranule(addr int) int {
+	return addr - addr%api.Granule + api.Granule
 }
 
 // touch is the error of touching the granule at an address under a pointer's tag.

@@ -61,8 +61,7 @@ func (h *Heap) blockOf(p int) (int, int, api.Errno) {
 		return 0, 0, api.ErrFree
 	}
 	s := h.classes[n].slots[i]
-	// A virgin slot has no last tag, so a pointer with the tag 0 must not match it.
-	if s.state == api.Virgin || s.tag != p/api.TagUnit {
+	if !s.had(p / api.TagUnit) {
 		return 0, 0, api.ErrFree
 	}
 	if s.state == api.Freed {

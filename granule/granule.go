@@ -161,16 +161,40 @@ func (h *Heap) Move(to int, from int, n int) api.Errno {
 }
 
 // Explain tells what an access finds (P12).
-func (h *Heap) Explain(p int, n int) api.Report { return api.Report{} }
+func (h *Heap) Explain(p int, n int) api.Report {
+	addr, err := h.decide(p, n)
+	if err != api.ErrMap && err != api.ErrTag {
+		return api.Report{Err: err}
+	}
+	return h.report(err, addr, p/api.TagUnit)
+}
 
 // Blame tells what a Free finds (P12).
-func (h *Heap) Blame(p int) api.Report { return api.Report{} }
+func (h *Heap) Blame(p int) api.Report {
+	_, _, err := h.blockOf(p)
+	if err == api.OK || err == api.ErrWild {
+		return api.Report{Err: err}
+	}
+	return h.report(err, p%api.TagUnit, p/api.TagUnit)
+}
 
 // Read tells which program an image is (P14).
-func Read(image string) (api.Program, api.Errno) { return api.Program{}, api.OK }
+func Read(image string) (api.Program, api.Errno) {
+	s := scanner{image: image}
+	p := s.program()
+	if s.failed || s.at != len(image) || !validProgram(p) {
+		return api.Program{}, api.ErrImage
+	}
+	return p, api.OK
+}
 
 // Write makes a program's image (P14).
-func Write(p api.Program) (string, api.Errno) { return "", api.OK }
+func Write(p api.Program) (string, api.Errno) {
+	if !validProgram(p) {
+		return "", api.ErrImage
+	}
+	return imageOf(p), api.OK
+}
 
 // Run runs an image (P15, P16).
 func Run(image string, input string, draws []int, fuel int) api.Outcome { return api.Outcome{} }

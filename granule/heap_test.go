@@ -13,11 +13,13 @@ func TestP1NoCallPanicsAtAnyNumber(t *testing.T) {
 		h.Tag(a)
 		h.Free(a, a)
 		h.Usable(a)
+		h.Blame(a)
 		for _, b := range extremes {
 			h.Malloc(a, b, a)
 			h.Realloc(a, b, a, b)
 			h.Load(a, b)
 			h.Store(a, b, a)
+			h.Explain(a, b)
 			for _, n := range extremes {
 				h.Move(a, b, n)
 			}
@@ -481,6 +483,7 @@ func TestTheDocumentsExampleHeap(t *testing.T) {
 	wantTag(t, h, 48, 15)
 	wantMalloc(t, h, 16, 0, 11, 0, api.ErrFull)
 	wantFree(t, h, unit+48, 12, api.ErrTwice)
+	wantExplain(t, h, unit+50, 1, api.Report{Err: api.ErrTag, Addr: 50, Want: 1, Found: 15, State: api.Freed, Alloc: 7, Gone: 10, Near: []api.Near{{Slot: 0, Alloc: 7, Gone: 10}}})
 	wantFree(t, h, 2*unit+64, 13, api.OK)
 	wantMalloc(t, h, 16, 0, 14, 3*unit+48, api.OK)
 	wantFree(t, h, unit+48, 15, api.ErrFree)

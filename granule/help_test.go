@@ -1,6 +1,7 @@
 package granule
 
 import (
+	"fmt"
 	"reflect"
 	"testing"
 
@@ -94,6 +95,27 @@ func wantMove(t *testing.T, h *Heap, to int, from int, n int, want api.Errno) {
 	if err := h.Move(to, from, n); err != want {
 		t.Fatalf("Move(%d, %d, %d) = %d, want %d", to, from, n, err, want)
 	}
+}
+
+// wantReport takes an empty list for none.
+func wantReport(t *testing.T, what string, got api.Report, want api.Report) {
+	t.Helper()
+	if len(got.Near) == 0 && len(want.Near) == 0 {
+		got.Near, want.Near = nil, nil
+	}
+	if !reflect.DeepEqual(got, want) {
+		t.Fatalf("%s = %+v, want %+v", what, got, want)
+	}
+}
+
+func wantExplain(t *testing.T, h *Heap, p int, n int, want api.Report) {
+	t.Helper()
+	wantReport(t, fmt.Sprintf("Explain(%d, %d)", p, n), h.Explain(p, n), want)
+}
+
+func wantBlame(t *testing.T, h *Heap, p int, want api.Report) {
+	t.Helper()
+	wantReport(t, fmt.Sprintf("Blame(%d)", p), h.Blame(p), want)
 }
 
 // wantBytes looks at n bytes from an address on: those of the list, and behind them only zeros.

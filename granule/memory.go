@@ -14,6 +14,11 @@ type slot struct {
 	gone  int // the Gone site, 0 unless freed
 }
 
+// had tells if a tag is the slot's last; a virgin slot has none, so not even 0 is.
+func (s slot) had(tag int) bool {
+	return s.state != api.Virgin && s.tag == tag
+}
+
 // class is the slots of one length, one behind the other.
 type class struct {
 	begin int // the address of slot 0

@@ -11,6 +11,7 @@ type event struct {
 	class, slot int
 	freed       bool
 	tag, bytes  int
+	alloc, gone int
 }
 
 // history is a second heap that keeps nothing but what happened, and works all else out from it.
@@ -48,7 +49,7 @@ func (y *history) lastTag(class int, slot int) int {
 	return e.tag
 }
 
-func (y *history) malloc(size int, draw int) (int, api.Errno) {
+func (y *history) malloc(size int, draw int, site int) (int, api.Errno) {
 	for n, k := range y.conf.Classes {
 		if size < 1 || size > 16*k.Granules {
 			continue
@@ -59,7 +60,7 @@ func (y *history) malloc(size int, draw int) (int, api.Errno) {
 				continue
 			}
 			tag := pickByWords(e.tag, y.lastTag(n, i-1), y.lastTag(n, i+1), draw)
-			y.events = append(y.events, event{n, i, false, tag, (size + 15) / 16 * 16})
+			y.events = append(y.events, event{n, i, false, tag, (size + 15) / 16 * 16, site, 0})
 			for at := 0; at < (size+15)/16*16; at++ {
 				delete(y.bytes, y.begin(n, i)+at)
 			}
@@ -90,27 +91,28 @@ func (y *history) find(p int) (event, api.Errno) {
 	return event{}, api.ErrFree
 }
 
-func (y *history) free(p int) api.Errno {
+func (y *history) free(p int, site int) api.Errno {
 	if p == 0 {
 		return api.OK
 	}
 	e, err := y.find(p)
 	if err == api.OK {
 		e.freed = true
+		e.gone = site
 		y.events = append(y.events, e)
 	}
 	return err
 }
 
-func (y *history) realloc(p int, size int, draw int) (int, api.Errno) {
+func (y *history) realloc(p int, size int, draw int, site int) (int, api.Errno) {
 	if p == 0 {
-		return y.malloc(size, draw)
+		return y.malloc(size, draw, site)
 	}
 	old, err := y.find(p)
 	if err != api.OK {
 		return 0, err
 	}
-	q, err := y.malloc(size, draw)
+	q, err := y.malloc(size, draw, site)
 	if err != api.OK {
 		return 0, err
 	}
@@ -118,7 +120,7 @@ func (y *history) realloc(p int, size int, draw int) (int, api.Errno) {
 	for i := 0; i < old.bytes && i < fresh.bytes; i++ {
 		y.bytes[q&65535+i] = y.bytes[p&65535+i]
 	}
-	return q, y.free(p)
+	return q, y.free(p, site)
 }
 
 func (y *history) usable(p int) (int, api.Errno) {
@@ -126,24 +128,82 @@ func (y *history) usable(p int) (int, api.Errno) {
 	return e.bytes, err
 }
 
-func (y *history) access(p int, n int) api.Errno {
+// decide is the error of an access, and the first address that is refused.
+func (y *history) decide(p int, n int) (int, api.Errno) {
 	if n < 0 || n > 65536 {
-		return api.ErrArg
+		return 0, api.ErrArg
 	}
 	if n > 0 && (p < 0 || p>>56 > 15 || p&(1<<56-1) > 65535) {
-		return api.ErrWild
+		return 0, api.ErrWild
 	}
 	tags := y.tags()
-	for i := 0; i < n; i++ {
-		g := (p&65535 + i) / 16
+	for at := p & 65535; at < p&65535+n; at++ {
+		g := at / 16
 		if g >= len(tags) || tags[g] == api.NoTag {
-			return api.ErrMap
+			return at, api.ErrMap
 		}
 		if tags[g] == api.Poison || tags[g] != p>>56 {
-			return api.ErrTag
+			return at, api.ErrTag
 		}
 	}
-	return api.OK
+	return 0, api.OK
+}
+
+func (y *history) access(p int, n int) api.Errno {
+	_, err := y.decide(p, n)
+	return err
+}
+
+func (y *history) explain(p int, n int) api.Report {
+	addr, err := y.decide(p, n)
+	if err == api.OK || err == api.ErrArg || err == api.ErrWild {
+		return api.Report{Err: err}
+	}
+	return y.report(err, addr, p>>56)
+}
+
+func (y *history) blame(p int) api.Report {
+	_, err := y.find(p)
+	if err == api.OK || err == api.ErrWild {
+		return api.Report{Err: err}
+	}
+	return y.report(err, p&65535, p>>56)
+}
+
+func (y *history) report(err api.Errno, addr int, want int) api.Report {
+	r := api.Report{Err: err, Addr: addr, Want: want, Found: -1}
+	if tags := y.tags(); addr/16 < len(tags) {
+		r.Found = tags[addr/16]
+	}
+	if r.Found == 0 {
+		r.State = 1
+	}
+	for n, k := range y.conf.Classes {
+		for i := 0; i < k.Slots; i++ {
+			if addr < y.begin(n, i) || addr >= y.begin(n, i+1) {
+				continue
+			}
+			e, given, _ := y.last(n, i)
+			r.State, r.Class, r.Slot, r.Alloc, r.Gone = 2, n, i, e.alloc, e.gone
+			if given && e.freed {
+				r.State = 4
+			} else if given {
+				r.State = 3
+			}
+			r.Near = y.near(n, i, want)
+		}
+	}
+	return r
+}
+
+func (y *history) near(class int, slot int, tag int) []api.Near {
+	var list []api.Near
+	for i := slot - 1; i <= slot+1; i++ {
+		if e, given, _ := y.last(class, i); given && e.tag == tag {
+			list = append(list, api.Near{Slot: i, Alloc: e.alloc, Gone: e.gone})
+		}
+	}
+	return list
 }
 
 func (y *history) load(p int, width int) (int, api.Errno) {
@@ -256,13 +316,13 @@ func (g *player) block(t *testing.T, step int) {
 	p := somePointer(g.r, g.given)
 	switch g.r.next(6) {
 	case 0, 1:
-		want, wantErr := g.y.malloc(size, draw)
+		want, wantErr := g.y.malloc(size, draw, step)
 		wantMalloc(t, g.h, size, draw, step, want, wantErr)
 		g.keep(want, wantErr)
 	case 2, 3:
-		wantFree(t, g.h, p, step, g.y.free(p))
+		wantFree(t, g.h, p, step, g.y.free(p, step))
 	case 4:
-		want, wantErr := g.y.realloc(p, size, draw)
+		want, wantErr := g.y.realloc(p, size, draw, step)
 		wantRealloc(t, g.h, p, size, draw, step, want, wantErr)
 		g.keep(want, wantErr)
 	case 5:
@@ -288,13 +348,25 @@ func (g *player) touch(t *testing.T) {
 	}
 }
 
+func (g *player) ask(t *testing.T) {
+	t.Helper()
+	p := g.somePlace()
+	n := g.r.next(60) - 1
+	wantExplain(t, g.h, p, n, g.y.explain(p, n))
+	wantBlame(t, g.h, p, g.y.blame(p))
+	q := somePointer(g.r, g.given)
+	wantBlame(t, g.h, q, g.y.blame(q))
+}
+
 func playAlong(t *testing.T, c api.Conf, seed uint64) {
 	t.Helper()
 	g := &player{h: mustNew(t, c), y: &history{conf: c, bytes: map[int]byte{}}, r: &numbers{seed}}
 	for step := 0; step < 300; step++ {
-		g.block(t, step)
+		g.block(t, step-7)
 		g.touch(t)
 		g.touch(t)
+		g.ask(t)
+		g.ask(t)
 		for at, tag := range g.y.tags() {
 			wantTag(t, g.h, 16*at, tag)
 			wantTag(t, g.h, 16*at+15, tag)
@@ -307,7 +379,7 @@ func playAlong(t *testing.T, c api.Conf, seed uint64) {
 	}
 }
 
-func TestP4P6ToP11TheHeapAnswersAsItsHistorySays(t *testing.T) {
+func TestP4P6ToP12TheHeapAnswersAsItsHistorySays(t *testing.T) {
 	for seed := uint64(1); seed <= 12; seed++ {
 		for _, c := range []api.Conf{
 			exampleConf(),
