@@ -197,4 +197,12 @@ func Write(p api.Program) (string, api.Errno) {
 }
 
 // Run runs an image (P15, P16).
-func Run(image string, input string, draws []int, fuel int) api.Outcome { return api.Outcome{} }
+func Run(image string, input string, draws []int, fuel int) api.Outcome {
+	p, err := Read(image)
+	if err != api.OK {
+		return api.Outcome{End: api.EndImage}
+	}
+	m := newMachine(p, input, draws)
+	m.run(fuel)
+	return m.outcome()
+}

@@ -2,7 +2,10 @@ package granule
 
 import "granule/api"
 
-const staticTag = 0
+const (
+	staticTag   = 0
+	staticBegin = api.Granule // behind the one granule that is not there
+)
 
 // slot is a slot with what is told of its last block.
 type slot struct {
@@ -53,7 +56,7 @@ func (k *class) lastTag(i int) int {
 }
 
 func (h *Heap) inStatic(addr int) bool {
-	return addr >= api.Granule && addr < (1+h.static)*api.Granule
+	return addr >= staticBegin && addr < staticBegin+h.static*api.Granule
 }
 
 // slotAt tells the class and the slot in which an address lies; the class is -1 if it lies in none.
